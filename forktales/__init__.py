@@ -1,0 +1,1 @@
+"""Forktales: branching stories run from their texts."""
