@@ -2,6 +2,8 @@
 
 import copy
 
+from forktales.errors import NoText
+
 
 def same(one, other):
     """Whether two things are the same, kind by kind: True is no 1, a list no tuple."""
@@ -49,6 +51,14 @@ def refusal(function, error, *fields, **named):
     if not same(found[0], found[1]) or not same(named, before):
         raise AssertionError(f"{function.__name__}: {found!r}, {named!r}")
     return found[0]
+
+
+def found(read, text):
+    """What a reading function tells of a text, as slowreading tells it."""
+    try:
+        return ("read", read(text))
+    except NoText as refused:
+        return ("refused", refused.line, refused.word)
 
 
 STRANGE = (None, True, False, 0, 1, -1, 10 ** 59, "", "a", "A", "a b", "num", "all", (), [], ("a",), ["a"])

@@ -7,7 +7,7 @@ from forktales.houselogs import is_log
 from forktales.savedreadings import read_saved
 from forktales.savedtexts import saved_text
 from tests import slowreading
-from tests.helpers import refusal, same, told
+from tests.helpers import found, refusal, same, told
 from tests.samples import BIG, INN, INN_TEXT, LOG, LOG_TEXT, SMALL, SMALL_TEXT, VOID, VOID_TEXT
 
 HOUSE = "house any - 2\n" + VOID_TEXT
@@ -25,14 +25,6 @@ OTHER_WORDS = (
     "c.d>a.b,a.b>c.d", "a.b>c.d,a.b>c.e", "a.b>c.d,a.c>c.d", "a.b", "a.b>", "a.b>c", "a>c.d", "a.b>c.d.e", "a.b.c>d.e", "a.b>c.D", "a.b>c.d,",
     "house", "come", "edit",
 )
-
-
-def found(text):
-    """What read_saved tells of a text, as slowreading tells it."""
-    try:
-        return ("read", read_saved(text))
-    except NoText as refused:
-        return ("refused", refused.line, refused.word)
 
 
 class Reading(unittest.TestCase):
@@ -161,7 +153,7 @@ class Bent(unittest.TestCase):
     """Texts with lines and words bent, one after the other, against the other reader."""
 
     def check(self, text):
-        mine, other = found(text), slowreading.read_log(text)
+        mine, other = found(read_saved, text), slowreading.read_log(text)
         self.assertTrue(same(mine, other), (text, mine, other))
         if mine[0] == "read":
             self.assertEqual(saved_text(mine[1]), text)

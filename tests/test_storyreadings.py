@@ -7,7 +7,7 @@ from forktales.scenekinds import is_story
 from forktales.storyreadings import story_read
 from forktales.storytexts import story_text
 from tests import slowreading
-from tests.helpers import refusal, same, told
+from tests.helpers import found, refusal, same, told
 from tests.samples import BIG, INN, INN_TEXT, SMALL, SMALL_TEXT, VOID, VOID_TEXT, choice, scene, story
 
 HEAD = "digits\nbegin a\n"
@@ -28,14 +28,6 @@ OTHER_WORDS = (
     "9" * 60, "9" * 61, "-" + "9" * 60, "-" + "9" * 61, "<", "=", ">", "<=", "num", "of", "seen", "plus", "minus", "is",
     "at", "with", "not", "all", "any", "text", "only", "else",
 )
-
-
-def found(text):
-    """What story_read tells of a text, as slowreading tells it."""
-    try:
-        return ("read", story_read(text))
-    except NoText as refused:
-        return ("refused", refused.line, refused.word)
 
 
 class Reading(unittest.TestCase):
@@ -291,7 +283,7 @@ class Bent(unittest.TestCase):
     """Texts with lines and words bent, one after the other, against the other reader."""
 
     def check(self, text):
-        mine, other = found(text), slowreading.read_story(text)
+        mine, other = found(story_read, text), slowreading.read_story(text)
         self.assertTrue(same(mine, other), (text, mine, other))
         if mine[0] == "read":
             self.assertEqual(story_text(mine[1]), text)
