@@ -24,12 +24,12 @@ def is_story(thing):
     numbers, places, doors, figures, digits, scenes, begin = thing
     return (
         _are_named(numbers, _is_number_row)
-        and _is_all(places, is_word)
+        and is_tuple_of(places, is_word)
         and rises(places)
-        and _is_all(doors, _is_door)
+        and is_tuple_of(doors, _is_door)
         and rises(doors)
         and _are_named(figures, is_word_pair)
-        and _is_all(digits, _is_digit)
+        and is_tuple_of(digits, _is_digit)
         and _are_named(scenes, is_scene)
         and is_word(begin)
     )
@@ -42,17 +42,17 @@ def is_word_pair(thing):
 
 def is_word_row(thing):
     """Whether a thing is a rising tuple of WORDS."""
-    return _is_all(thing, is_word) and rises(thing)
+    return is_tuple_of(thing, is_word) and rises(thing)
 
 
-def _is_all(thing, is_one):
+def is_tuple_of(thing, is_one):
     """Whether a thing is a tuple of things that are all as told."""
     return isinstance(thing, tuple) and all([is_one(part) for part in thing])
 
 
 def _are_named(thing, is_one):
     """Whether a thing is a tuple of such things that rises by their names, the first in each."""
-    return _is_all(thing, is_one) and rises([part[0] for part in thing])
+    return is_tuple_of(thing, is_one) and rises([part[0] for part in thing])
 
 
 def _is_number_row(thing):

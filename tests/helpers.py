@@ -1,8 +1,9 @@
 """What the tests have in common: calls by place and by name, things compared kind by kind, things bent."""
 
 import copy
+import inspect
 
-from forktales.errors import NoText
+from forktales.errors import NoPaper, NoText
 
 
 def same(one, other):
@@ -23,11 +24,18 @@ def same(one, other):
     return True
 
 
+def by_place(function, named):
+    """What a function tells where all that can be is handed in by its place."""
+    parameters = inspect.signature(function).parameters
+    alone = {name: named[name] for name in named if parameters[name].kind is inspect.Parameter.KEYWORD_ONLY}
+    return function(*[named[name] for name in named if name not in alone], **alone)
+
+
 def told(function, **named):
     """What a function tells, by names and by places alike; what is handed in stays as it is."""
     before = copy.deepcopy(named)
     first = function(**named)
-    second = function(*named.values())
+    second = by_place(function, named)
     if not same(first, second):
         raise AssertionError(f"{function.__name__} by name {first!r}, by place {second!r}")
     if not same(named, before):
@@ -39,7 +47,7 @@ def refusal(function, error, *fields, **named):
     """The fields of the refusal that a call ends in, each call in the same, nothing changed."""
     before = copy.deepcopy(named)
     found = []
-    for call in (lambda: function(**named), lambda: function(*named.values())):
+    for call in (lambda: function(**named), lambda: by_place(function, named)):
         try:
             answer = call()
         except error as refused:
@@ -51,6 +59,11 @@ def refusal(function, error, *fields, **named):
     if not same(found[0], found[1]) or not same(named, before):
         raise AssertionError(f"{function.__name__}: {found!r}, {named!r}")
     return found[0]
+
+
+def paper_fault(function, **named):
+    """The word and the place of the NoPaper that a checker ends in."""
+    return refusal(function, NoPaper, "word", "at", **named)
 
 
 def found(read, text):

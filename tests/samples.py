@@ -204,3 +204,76 @@ def choice(name, leads=("back",), *, label=(), test=ALWAYS, once=False, deeds=()
 
 def story(*scenes, begin="a", numbers=(), places=(), doors=(), figures=(), digits=()):
     return (numbers, places, doors, figures, digits, tuple(sorted(scenes)), begin)
+
+
+# A WHOLE story to be gone through: places in a row with a door between two neighbours.
+TOUR = story(
+    scene(
+        "hall",
+        pieces=(("text", "The hall, "), ("place", "ann"), ("end",), ("only", "pia", (("text", "psst "), ("worth", ("of", "coin"))))),
+        choices=(
+            choice("enter", ("into", "vault", "hall"), label=(("text", "Enter for "), ("worth", ("of", "coin")))),
+            choice("pay", ("to", "yard"), test=("is", ("of", "coin"), ">", ("num", 1)), once=True,
+                   deeds=(("set", "coin", ("minus", ("of", "coin"), ("num", 2))), ("go", "ann", "inn"))),
+        ),
+        woven=("map",),
+    ),
+    scene("map", pieces=(("text", "never shown"),), choices=(choice("look", ("to", "map"), test=("is", ("seen", "map"), "<", ("num", 2))),)),
+    scene("vault", choices=(choice("out", ("back",), deeds=(("draw", "luck"),)), choice("deep", ("into", "vault", "vault")))),
+    scene("yard", pieces=(("text", "out"),), choices=(choice("go", ("to", "hall")),), ending="free"),
+    begin="hall",
+    numbers=(("coin", 0, 9, 3), ("luck", -9, 9, -1)),
+    places=("attic", "inn", "lake", "road"),
+    doors=(("attic", "inn"), ("inn", "lake"), ("lake", "road")),
+    figures=(("ann", "lake"), ("bob", "road"), ("cat", "road")),
+    digits=(3, 0, 7),
+)
+
+TOUR_FIRST = ("hall", (), (3, -1), (("at", "lake"), ("at", "road"), ("at", "road")), (("map", 0),), (), 0)
+
+
+def stand(*, scene="a", stack=(), numbers=(), wheres=(), seen=(), made=(), digit=0):
+    return (scene, stack, numbers, wheres, seen, made, digit)
+
+
+def at_with(text):
+    """WHERES from words as "lake road =ann", a sign = ahead of one who is with that one."""
+    return tuple(("with", word[1:]) if word[0] == "=" else ("at", word) for word in text.split(" "))
+
+
+def changed(thing, **parts):
+    """A STAND with some of its parts as told."""
+    names = ("scene", "stack", "numbers", "wheres", "seen", "made", "digit")
+    return tuple(parts.get(name, old) for name, old in zip(names, thing))
+
+
+def largest():
+    """A WHOLE story of the bounds' size, all that can be asked asked."""
+    figures = ("ann", "bob", "cat", "dan")
+    numbers = ("one", "three", "two", "zero")
+    scenes = "abcdefgh"
+    amount = ("of", "one")
+    for name in ("three", "two", "zero"):
+        amount = ("plus", ("seen", scenes[len(name)]), ("minus", amount, ("of", name)))
+    test = ("is", ("seen", "a"), "<", ("of", "one"))
+    for word in ("any", "all", "not"):
+        test = (word, test) if word == "not" else (word, (test,) + tuple(("at", name, "inn") for name in figures) + (("with", "ann", "bob"),))
+    pieces = (("worth", amount),)
+    for name in figures[:3]:
+        pieces = (("text", name), ("if", test, pieces, (("end",),)), ("glue",), ("place", name), ("only", name, pieces), ("end",))
+    label = (("text", "to "), ("worth", amount), ("if", test, (("text", "now"),), ()))
+    deeds = (("set", "one", amount), ("draw", "two"), ("put", "ann", "inn"), ("join", "bob", "ann"), ("go", "cat", "lake"), ("leave", "dan"))
+    rows = []
+    for k, name in enumerate(scenes):
+        other = scenes[(k + 1) % 8]
+        choices = (
+            choice("w", ("to", other), label=label, test=test, once=True, deeds=deeds), choice("x", ("into", other, name), label=label),
+            choice("y", ("back",), test=test), choice("z", ("to", name), once=True, deeds=deeds[:1]),
+        )
+        rows.append(scene(name, pieces=pieces, choices=choices, woven=tuple(scenes[(k + j) % 8] for j in (1, 2, 3)),
+                          ending="end" if name == "h" else None))
+    return story(
+        *rows, numbers=tuple((name, 0, 9, k) for k, name in enumerate(numbers)), places=("attic", "inn", "lake", "road", "wood"),
+        doors=(("attic", "inn"), ("inn", "lake"), ("lake", "road"), ("road", "wood")), figures=tuple((name, "inn") for name in figures),
+        digits=(1, 2, 3, 4, 5, 6),
+    )

@@ -2,6 +2,11 @@
 
 import random
 
+from forktales.barring import made
+from forktales.memory import first_stand
+from forktales.offering import offers
+from forktales.weaving import asked_scenes
+
 SCENES = ("attic", "cellar", "hall", "loft", "yard")
 CHOICES = ("call", "drop", "open", "take", "wait")
 NUMBERS = ("coin", "debt")
@@ -11,8 +16,10 @@ READERS = ("ann", "pia", "tom")
 
 
 class Maker:
-    def __init__(self, seed):
+    def __init__(self, seed, *, lively=False):
+        """In lively stories fewer scenes end, and more choices are offered."""
         self.chance = random.Random(seed)
+        self.lively = lively
 
     def some(self, things, most=3):
         """Unlike ones of some things, rising."""
@@ -68,17 +75,19 @@ class Maker:
         return (word, self.one(FIGURES), self.one(FIGURES if word == "join" else PLACES))
 
     def leads(self):
-        word = self.one(("to", "into", "back"))
+        word = self.one(("to", "into", "back") + ("to",) * 4 * self.lively)
         return (word,) + tuple(self.one(SCENES) for _ in range(("back", "to", "into").index(word)))
 
     def choice(self, name):
-        deeds = tuple(self.deed() for _ in range(self.one((0, 1, 2))))
-        return (name, self.pieces(only=False), self.test(), self.one((True, False)), deeds, self.leads())
+        deeds = tuple(self.deed() for _ in range(self.one((0, 0, 0, 1, 2) if self.lively else (0, 1, 2))))
+        test = ("all", ()) if self.lively and self.one((True, True, False)) else self.test()
+        return (name, self.pieces(only=False), test, self.one((True, False)), deeds, self.leads())
 
     def scene(self, name):
-        names = self.chance.sample(CHOICES, self.one((0, 1, 2, 3)))
+        names = self.chance.sample(CHOICES, self.one((1, 2, 3) if self.lively else (0, 1, 2, 3)))
         woven = tuple(self.chance.sample(SCENES, self.one((0, 0, 1, 2, 3))))
-        return (name, self.pieces(only=True), tuple(self.choice(other) for other in names), woven, self.one((None, None, "good", "bad")))
+        ending = self.one((None, None, "good", "bad") + (None,) * 8 * self.lively)
+        return (name, self.pieces(only=True), tuple(self.choice(other) for other in names), woven, ending)
 
     def story(self):
         numbers = tuple((name, low, low + more, low + self.chance.randint(0, more))
@@ -98,6 +107,63 @@ class Maker:
             tuple((self.one(SCENES), self.one(CHOICES)) for _ in range(self.one((0, 1, 3)))), self.number(),
         )
 
+    def right_stand(self, story):
+        """A RIGHT STAND of a story, any."""
+        names = [scene[0] for scene in story[5]]
+        figures = [row[0] for row in story[3]]
+        wheres = []
+        for k in range(len(figures)):
+            # with one ahead alone, so no ring comes about
+            other = self.one(figures[:k]) if k and self.one((True, False)) else None
+            wheres.append(("at", self.one(story[1])) if other is None else ("with", other))
+        onces = sorted((scene[0], choice[0]) for scene in story[5] for choice in scene[2] if choice[3])
+        return (
+            self.one(names), tuple(self.one(names) for _ in range(self.one((0, 1, 2, 3)))),
+            tuple(self.chance.randint(low, high) for _, low, high, _ in story[0]), tuple(wheres),
+            tuple((name, self.one((0, 1, 8, 9))) for name in asked_scenes(story)), self.some(onces),
+            self.chance.randrange(max(1, len(story[4]))),
+        )
+
+    def lifted(self, story):
+        """Some choices, one of them of no story."""
+        pairs = [(scene[0], choice[0]) for scene in story[5] for choice in scene[2]]
+        return self.some([*pairs, ("nowhere", "none")], len(pairs))
+
+    def row(self, story, many, lifted=()):
+        """A row of choices of a story, offered in turn, and the stands on the way."""
+        stands, row = [first_stand(story)], []
+        for _ in range(many):
+            choices = [offer[:2] for offer in offers(story, stands[-1], lifted=lifted)]
+            if not choices:
+                break
+            row.append(self.one(choices))
+            stands.append(made(story, stands[-1], row[-1], lifted=lifted))
+        return tuple(row), tuple(stands)
+
+    def edited(self, story):
+        """A WHOLE story with one part made anew."""
+        numbers, places, doors, figures, digits, scenes, begin = story
+        word = self.one(("pieces", "label", "test", "once", "deeds", "leads", "drop", "woven", "ending", "digits", "doors", "none"))
+        if word == "digits":
+            return (numbers, places, doors, figures, digits + (self.chance.randint(0, 9),), scenes, begin)
+        if word == "doors":
+            return (numbers, places, doors[1:], figures, digits, scenes, begin)
+        k = self.chance.randrange(len(scenes))
+        return (numbers, places, doors, figures, digits, scenes[:k] + (self.edited_scene(scenes[k], word),) + scenes[k + 1:], begin)
+
+    def edited_scene(self, scene, word):
+        name, pieces, choices, woven, ending = scene
+        new = self.choice(self.one(choices)[0]) if choices else None
+        slot = ("", "label", "test", "once", "deeds", "leads").index(word) if word in ("label", "test", "once", "deeds", "leads") else 0
+        if slot and new:
+            choices = tuple(old[:slot] + new[slot:slot + 1] + old[slot + 1:] if old[0] == new[0] else old for old in choices)
+        elif word == "drop":
+            choices = choices[1:]
+        return (
+            name, self.pieces(only=True) if word == "pieces" else pieces, choices,
+            woven[::-1] if word == "woven" else woven, self.one((None, "good", "bad")) if word == "ending" else ending,
+        )
+
     def calls(self, things):
         firsts, seconds = self.some(things), list(things)
         self.chance.shuffle(seconds)
@@ -105,6 +171,15 @@ class Maker:
 
     def table(self):
         return (self.calls(SCENES + ("zoo", "den")), self.calls([(one, other) for one in SCENES for other in CHOICES[:2]]))
+
+    def full_table(self, story):
+        """A TABLE by which the story can be called otherwise."""
+        scenes = dict(zip(SCENES, self.chance.sample([*SCENES, "den", "zoo"], len(SCENES))))
+        choices = []
+        for name, _, own, _, _ in story[5]:
+            others = self.chance.sample([*CHOICES, "sing"], len(own))
+            choices += [((name, choice[0]), (scenes[name], other)) for choice, other in zip(own, others)]
+        return (tuple(sorted(scenes.items())), tuple(sorted(choices)))
 
     def log(self):
         rows = [("house", self.story(), self.some(READERS), self.one(("turns", "votes", "any")))]

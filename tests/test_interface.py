@@ -21,7 +21,30 @@ FUNCTIONS = {
     "houselogs": {"is_log": "thing"},
     "savedtexts": {"saved_text": "log"},
     "savedreadings": {"read_saved": "text"},
+    "memory": {"first_stand": "story", "place_of": "story stand figure"},
+    "standchecker": {"lets_stand": "story thing", "is_right_stand": "story thing"},
+    "sums": {"worth_of": "story stand amount"},
+    "asking": {"is_met": "story stand test"},
+    "deeds": {"deed_done": "story stand deed"},
+    "barring": {"barred": "story stand choice * lifted", "made": "story stand choice * lifted"},
+    "offering": {"offers": "story stand * lifted"},
+    "shownlines": {"shown": "story stand * reader"},
+    "rowmaking": {"story_rows": "story"},
+    "rowruns": {
+        "rows_shown": "rows stand * reader", "rows_offers": "rows stand * lifted", "rows_made": "rows stand choice * lifted",
+        "rows_run": "rows row * begin lifted",
+    },
+    "living": {"things_of": "story", "live_things": "story scene"},
+    "alikeness": {"lean_stand": "story stand", "are_alike": "story one other"},
+    "leading": {"row_led": "one other row * table"},
+    "leadpapers": {"lead_paper": "one other row * table"},
+    "leadchecker": {"lets_lead": "one other row thing * table"},
+    "pairing": {"alike_or_parted": "one other * table most"},
+    "pairjudge": {"lets_pairing": "one other thing * table"},
 }
+
+# What an argument that may be left out is then.
+LEFT_OUT = {"lifted": (), "reader": None, "begin": None, "table": ((), ()), "most": 4000}
 
 
 class Interface(unittest.TestCase):
@@ -33,10 +56,15 @@ class Interface(unittest.TestCase):
                     function = getattr(file, name)
                     self.assertTrue(inspect.isfunction(function))
                     self.assertEqual(function.__module__, "forktales." + module)
-                    self.assertEqual(list(inspect.signature(function).parameters), arguments.split(" "))
+                    by_place, _, alone = arguments.partition(" * ")
+                    self.assertEqual(list(inspect.signature(function).parameters), by_place.split(" ") + alone.split())
                     for parameter in inspect.signature(function).parameters.values():
-                        self.assertEqual(parameter.kind, inspect.Parameter.POSITIONAL_OR_KEYWORD)
-                        self.assertIs(parameter.default, inspect.Parameter.empty)
+                        if parameter.name in by_place.split(" "):
+                            self.assertEqual(parameter.kind, inspect.Parameter.POSITIONAL_OR_KEYWORD)
+                            self.assertIs(parameter.default, inspect.Parameter.empty)
+                        else:
+                            self.assertEqual(parameter.kind, inspect.Parameter.KEYWORD_ONLY)
+                            self.assertEqual(parameter.default, LEFT_OUT[parameter.name])
 
 
 if __name__ == "__main__":
