@@ -6,24 +6,12 @@ def are_same(one, other):
     left = [(one, other)]
     while left:
         this, that = left.pop()
-        if _kind(this) != _kind(that):
+        if isinstance(this, bool) != isinstance(that, bool) or isinstance(this, list) != isinstance(that, list):
             return False
-        if isinstance(this, (list, tuple)):
+        if isinstance(this, (list, tuple)) and isinstance(that, (list, tuple)):
             if len(this) != len(that):
                 return False
             left.extend(list(zip(this, that)))
         elif this != that:
             return False
     return True
-
-
-def _kind(thing):
-    if isinstance(thing, bool):
-        return "truth"
-    if isinstance(thing, int):
-        return "number"
-    if isinstance(thing, str):
-        return "text"
-    if isinstance(thing, tuple):
-        return "tuple"
-    return "list" if isinstance(thing, list) else "none"
