@@ -10,7 +10,7 @@ from forktales.pairing import alike_or_parted
 from forktales.pairjudge import lets_pairing
 from forktales.skeletons import skeleton_of
 from forktales.tables import table_turned
-from tests import slowpairs
+from tests import slowpairs, slowtale
 from tests.helpers import refusal, same, told
 from tests.leadsamples import BARRED, ONE, OTHER, TABLE
 from tests.pairsamples import NEVER, PARTS_AT_A, PARTS_AT_B, PARTS_AT_D, PLAIN, counting, walk
@@ -196,10 +196,17 @@ class Many(Paired):
                 other = story_called(other, table)
             words.append(self.compare(one, other, table, 25))
             if words[-1] == "alike":
-                row, _ = maker.row(one, 8)
-                row_led(one, other, row, table=table)
+                self.each_row_is_led(maker, one, other, table)
+                self.each_row_is_led(maker, other, one, table_turned(table))
         for word in ("alike", "parted", "none"):
             self.assertGreater(words.count(word), 4)
+
+    def each_row_is_led(self, maker, one, other, table):
+        """Where they go alike, to the same endings."""
+        row, stands = maker.row(one, 8)
+        _, others = row_led(one, other, row, table=table)
+        endings = [slowtale.scene_of(one, stand[0])[4] for stand in stands]
+        self.assertEqual(endings, [slowtale.scene_of(other, stand[0])[4] for stand in others])
 
     def test_called_otherwise(self):
         for seed in range(30):
