@@ -10,5 +10,7 @@ def lean_stand(story, stand):
 
 def are_alike(story, one, other):
     """Whether two STANDS, made LEAN, are the same."""
+    if one[:2] != other[:2]:
+        return False
     steps = LeanSteps(story)
     return steps.lean(one) == steps.lean(other)

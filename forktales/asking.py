@@ -1,9 +1,10 @@
 """Whether TESTS are met."""
 
-from forktales.facts import facts_of
-from forktales.folding import flat_marks, folded
+from forktales.facts import Facts
+from forktales.meanings import is_met_by
+from forktales.tales import StoryTale
 
 
 def is_met(story, stand, test):
     """Whether a TEST is met at a STAND."""
-    return folded(flat_marks("TEST", test), facts_of(story, stand))
+    return is_met_by(Facts(StoryTale(story), stand), test)

@@ -1,36 +1,40 @@
 """DEEDS: what they do to what is remembered."""
 
 from forktales.facts import Facts
-from forktales.folding import flat_marks, folded
-from forktales.grounds import ground_of
+from forktales.meanings import worth_by
 from forktales.memory import chain_from, place_in
+from forktales.tales import StoryTale
 
 
 def deed_done(story, stand, deed):
     """The STAND at which a DEED is done, None where it cannot be."""
-    ground = ground_of(story)
-    facts = Facts(ground.bounds, ground.figures, stand)
-    return facts.as_stand() if do_deed(ground, facts, flat_marks("DEED", deed)) else None
+    tale = StoryTale(story)
+    facts = Facts(tale, stand)
+    return facts.as_stand() if do_deed(tale, facts, deed) else None
 
 
-def _set(ground, facts, name, amount):
-    low, high = ground.bounds[name]
-    if not low <= amount <= high:
+def _put_number(tale, facts, name, worth):
+    low, high = tale.bounds[name]
+    if not low <= worth <= high:
         return False
-    facts.numbers[name] = amount
+    facts.numbers[name] = worth
     return True
 
 
-def _draw(ground, facts, name):
-    if not ground.digits or not _set(ground, facts, name, ground.digits[facts.digit]):
+def _set(tale, facts, name, amount):
+    return _put_number(tale, facts, name, worth_by(facts, amount))
+
+
+def _draw(tale, facts, name):
+    if not tale.digits or not _put_number(tale, facts, name, tale.digits[facts.digit]):
         return False
-    facts.digit = (facts.digit + 1) % len(ground.digits)
+    facts.digit = (facts.digit + 1) % len(tale.digits)
     return True
 
 
-def _go(ground, facts, figure, place):
+def _go(tale, facts, figure, place):
     word, there = facts.wheres[figure]
-    if word != "at" or tuple(sorted([there, place])) not in ground.doors:
+    if word != "at" or tuple(sorted([there, place])) not in tale.doors:
         return False
     facts.wheres[figure] = ("at", place)
     return True
@@ -69,8 +73,8 @@ ACTS = {
 }
 
 
-def do_deed(ground, facts, marks):
-    """Do the DEED of such marks, if it can be done; told is whether."""
-    word, *things = folded(marks, facts)
+def do_deed(tale, facts, deed):
+    """Do a DEED, if it can be done; told is whether."""
+    word, *things = deed
     act = ACTS[word]
-    return act(ground, facts, *things)
+    return act(tale, facts, *things)

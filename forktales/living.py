@@ -1,9 +1,9 @@
 """What is LIVE: asked for by a SCENE, or by one that it leads to."""
 
 from forktales.errors import NoScene
-from forktales.lookups import scenes_by_name
-from forktales.trees import marks_of
-from forktales.weaving import asked_scenes, choices_at
+from forktales.inners import parts_of_choice, parts_within
+from forktales.tales import StoryTale
+from forktales.weaving import asked_scenes
 
 # Words of what asks where figures are, or moves them.
 FIGURE_WORDS = ("at", "with", "place", "go", "put", "join", "leave")
@@ -24,61 +24,71 @@ def things_of(story):
 
 def live_things(story, scene):
     """The THINGS that are LIVE of a SCENE, as they rise."""
-    live = live_by_scene(story)
-    if scene not in live:
+    tale = StoryTale(story)
+    if not tale.has_scene(scene):
         raise NoScene(scene)
-    return live[scene]
+    return tuple(sorted(Living(tale).live_of([scene])))
 
 
-def live_by_scene(story):
-    """A dict of what is LIVE of each SCENE, by its NAME."""
-    scenes = scenes_by_name(story)
-    choices = {(scene, choice[0]): choice for scene in scenes for choice in scenes[scene][2]}
-    asks = {pair: _asked_by_choice(pair, choices[pair], story[4]) for pair in choices}
-    reads = {}
-    leads = {}
-    for name in scenes:
-        pairs = choices_at(story, name) if scenes[name][4] is None else ()
-        own = _asked_by(marks_of("PIECES", scenes[name][1]), story[4])
-        reads[name] = own + [thing for pair in pairs for thing in asks[pair]]
-        leads[name] = [scene for pair in pairs for scene in choices[pair][5][1:]]
-    live = {}
-    for name in scenes:
-        things = [thing for scene in _come_to(leads, name) for thing in reads[scene]]
-        live[name] = tuple(sorted(set(things)))
-    return live
+class Living:
+    """What is LIVE of SCENES of a STORY; what asks for it is looked for when a SCENE is first come to."""
+
+    def __init__(self, tale):
+        self.tale = tale
+        self.by_choice = {}
+        self.by_scene = {}
+
+    def live_of(self, names):
+        """What is LIVE of some SCENES, a dict of True."""
+        come_to = {name: True for name in names}
+        left = list(come_to)
+        live = {}
+        while left:
+            name = left.pop()
+            live.update(self._reads(name))
+            for scene in self._leads(name):
+                if scene not in come_to:
+                    come_to[scene] = True
+                    left.append(scene)
+        return live
+
+    def _open_choices(self, name):
+        """The pairs of the CHOICES AT a SCENE, none where it has an ending."""
+        return self.tale.there(name) if self.tale.ending(name) is None else ()
+
+    def _leads(self, name):
+        """The SCENES to which CHOICES AT a SCENE lead."""
+        return [scene for pair in self._open_choices(name) for scene in self.tale.choice(pair)[5][1:]]
+
+    def _reads(self, name):
+        """What a SCENE READS, a dict of True."""
+        if name not in self.by_scene:
+            reads = _asked_by([self.tale.pieces(name)], self.tale.digits)
+            for pair in self._open_choices(name):
+                reads.update(self._asked_by_choice(pair))
+            self.by_scene[name] = reads
+        return self.by_scene[name]
+
+    def _asked_by_choice(self, pair):
+        """What a CHOICE asks for: its label, its TEST, its DEEDS, and whether it was made, if it is once."""
+        if pair not in self.by_choice:
+            choice = self.tale.choice(pair)
+            asked = _asked_by(parts_of_choice(choice), self.tale.digits)
+            if choice[3]:
+                scene, name = pair
+                asked["made", scene, name] = True
+            self.by_choice[pair] = asked
+        return self.by_choice[pair]
 
 
-def _asked_by_choice(pair, choice, digits):
-    """What a CHOICE asks for: its label, its TEST, its DEEDS, and whether it was made, if it is once."""
-    _, label, test, once, deeds, _ = choice
-    marks = marks_of("BITS", label) + marks_of("TEST", test) + marks_of("DEEDS", deeds)
-    return _asked_by(marks, digits) + ([("made", *pair)] if once else [])
-
-
-def _asked_by(marks, digits):
-    """What the parts of such marks ask for, each as often."""
-    things = []
-    for k, (_, head, _) in enumerate(marks):
-        if head == ("of",):
-            things.append(("num", marks[k + 1][2]))
-        elif head == ("seen",):
-            things.append(("seen", marks[k + 1][2]))
-        elif head == ("draw",) and digits:
-            things.append(("digit",))
-        elif head is not None and "".join(head) in FIGURE_WORDS:
-            things.append(("figures",))
-    return things
-
-
-def _come_to(leads, name):
-    """A SCENE and all that its CHOICES lead to, theirs too, and so on."""
-    come_to = [name]
-    left = [name]
-    while left:
-        last = left.pop()
-        for scene in leads[last]:
-            if scene not in come_to:
-                come_to.append(scene)
-                left.append(scene)
-    return come_to
+def _asked_by(parts, digits):
+    """What some parts, and those in them, ask for, a dict of True."""
+    inner = parts_within(parts)
+    asked = {("num", part[1]): True for part in inner if part[0] == "of"}
+    asked.update({("seen", part[1]): True for part in inner if part[0] == "seen"})
+    words = {part[0]: True for part in inner if isinstance(part[0], str)}
+    if any([word in words for word in FIGURE_WORDS]):
+        asked[("figures",)] = True
+    if "draw" in words and digits:
+        asked[("digit",)] = True
+    return asked

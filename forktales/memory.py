@@ -5,10 +5,15 @@ from forktales.weaving import asked_scenes
 
 def first_stand(story):
     """The FIRST STAND of a STORY."""
+    return stand_at_first(story, asked_scenes(story))
+
+
+def stand_at_first(story, asked):
+    """The FIRST STAND of a STORY; asked are the NAMES of the SCENES that are ASKED."""
     numbers, _, _, figures, _, _, begin = story
     firsts = tuple([first for _, _, _, first in numbers])
     wheres = tuple([("at", place) for _, place in figures])
-    seen = tuple([(name, 1 if name == begin else 0) for name in asked_scenes(story)])
+    seen = tuple([(name, 1 if name == begin else 0) for name in asked])
     return (begin, (), firsts, wheres, seen, (), 0)
 
 

@@ -4,50 +4,45 @@ from forktales.bounds import DEEP, SEEN
 from forktales.deeds import do_deed
 from forktales.errors import NoChoice
 from forktales.facts import Facts
-from forktales.folding import folded
+from forktales.meanings import is_met_by
 
 
-def outcome(ground, stand, choice, lifted):
+def outcome(tale, stand, choice, lifted):
     """What bars a choice, None where it is OFFERED; and the STAND to which it leads then, else None."""
-    bar = _bar_ahead(ground, stand, choice)
-    if bar is not None:
-        return (bar, None)
-    facts = Facts(ground.bounds, ground.figures, stand)
-    if choice not in lifted and not folded(ground.tests[choice], facts):
+    if tale.ending(stand[0]) is not None:
+        return ("ended", None)
+    if choice not in tale.there(stand[0]):
+        return ("there", None)
+    _, _, test, once, deeds, leads = tale.choice(choice)
+    if once and choice in stand[5]:
+        return ("once", None)
+    facts = Facts(tale, stand)
+    if choice not in lifted and not is_met_by(facts, test):
         return ("test", None)
-    for j, marks in enumerate(ground.deeds[choice]):
-        if not do_deed(ground, facts, marks):
+    for j, deed in enumerate(deeds):
+        if not do_deed(tale, facts, deed):
             return (("deed", j), None)
-    if not _lead(ground.leads[choice], facts):
+    if not _lead(leads, facts):
         return ("stack", None)
-    if ground.once[choice]:
+    if once:
         facts.made = tuple(sorted([*facts.made, choice]))
     if facts.scene in facts.seen:
         facts.seen[facts.scene] = min(SEEN, facts.seen[facts.scene] + 1)
     return (None, facts.as_stand())
 
 
-def made_at(ground, stand, choice, lifted):
+def made_at(tale, stand, choice, lifted):
     """The STAND to which a choice leads; refused where it is BARRED."""
-    bar, after = outcome(ground, stand, choice, lifted)
+    bar, after = outcome(tale, stand, choice, lifted)
     if bar is not None:
         raise NoChoice(choice, bar)
     return after
 
 
-def steps_from(ground, stand, lifted):
+def steps_from(tale, stand, lifted):
     """Each choice that is OFFERED, in order, and the STAND to which it leads: a list of pairs."""
-    outcomes = [(choice, outcome(ground, stand, choice, lifted)) for choice in ground.there[stand[0]]]
+    outcomes = [(choice, outcome(tale, stand, choice, lifted)) for choice in tale.there(stand[0])]
     return [(choice, after) for choice, (bar, after) in outcomes if bar is None]
-
-
-def _bar_ahead(ground, stand, choice):
-    """What bars a choice ahead of its TEST."""
-    if ground.endings[stand[0]] is not None:
-        return "ended"
-    if choice not in ground.there[stand[0]]:
-        return "there"
-    return "once" if ground.once[choice] and choice in stand[5] else None
 
 
 def _lead(leads, facts):

@@ -52,13 +52,13 @@ def _pairs_fault(steps, pairs):
 
 
 def _row_fault(steps, row):
-    one = steps.one.ground.first
-    other = steps.other.ground.first
+    one = steps.one.tale.first()
+    other = steps.other.tale.first()
     for k, choice in enumerate(row):
-        bar, one = outcome(steps.one.ground, one, choice, ())
+        bar, one = outcome(steps.one.tale, one, choice, ())
         if bar is not None or steps.calls[choice] is None:
             return ("row", k)
-        bar, other = outcome(steps.other.ground, other, steps.calls[choice], ())
+        bar, other = outcome(steps.other.tale, other, steps.calls[choice], ())
         if bar is not None:
             return ("row", k)
     fault, _ = steps.look((one, other))

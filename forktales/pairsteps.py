@@ -10,7 +10,7 @@ class PairSteps:
     def __init__(self, one, other, table):
         self.one = LeanSteps(one)
         self.other = LeanSteps(other)
-        self.calls = {choice: choice_call(table, choice) for choice in self.one.ground.once}
+        self.calls = {choice: choice_call(table, choice) for choice in self.one.tale.choices()}
 
     def first_pair(self):
         """The pair of both FIRST STANDS made LEAN."""
@@ -23,7 +23,7 @@ class PairSteps:
         and its call lead.
         """
         one, other = pair
-        if self.one.ground.endings[one[0]] != self.other.ground.endings[other[0]]:
+        if self.one.ending(one) != self.other.ending(other):
             return ("ending", [])
         steps = [(choice, self.calls[choice], after) for choice, after in self.one.steps(one)]
         others = dict(self.other.steps(other))

@@ -1,9 +1,10 @@
 """What SUMS are worth."""
 
-from forktales.facts import facts_of
-from forktales.folding import flat_marks, folded
+from forktales.facts import Facts
+from forktales.meanings import worth_by
+from forktales.tales import StoryTale
 
 
 def worth_of(story, stand, amount):
     """The WORTH of a SUM at a STAND."""
-    return folded(flat_marks("SUM", amount), facts_of(story, stand))
+    return worth_by(Facts(StoryTale(story), stand), amount)

@@ -5,9 +5,9 @@ from forktales.shapes import LISTS, ROWS, SHAPES, WORDED
 
 def is_word(thing):
     """Whether a thing is a text of one to eight small letters."""
-    if not isinstance(thing, str) or not 1 <= len(thing) <= 8:
+    if not isinstance(thing, str) or len(thing) > 8:
         return False
-    return all(["a" <= sign <= "z" for sign in thing])
+    return thing.isascii() and thing.isalpha() and thing.islower()
 
 
 def is_number(thing):

@@ -1,14 +1,18 @@
 """What of a WHOLE STORY is ASKED, and what is WOVEN where."""
 
 from forktales.errors import NoScene
+from forktales.inners import parts_of_choice, parts_within
 from forktales.lookups import scenes_by_name
-from forktales.trees import marks_of
 
 
 def asked_scenes(story):
     """The NAMES of scenes that are ASKED, as they rise."""
-    marks = [mark for scene in story[5] for mark in marks_of("SCENE", scene)]
-    return tuple(sorted({rest for sort, _, rest in marks if sort == "asked"}))
+    parts = []
+    for scene in story[5]:
+        parts.append(scene[1])
+        for choice in scene[2]:
+            parts.extend(parts_of_choice(choice))
+    return tuple(sorted({part[1] for part in parts_within(parts) if part[0] == "seen"}))
 
 
 def woven_at(story, name):
@@ -16,6 +20,27 @@ def woven_at(story, name):
     scenes = scenes_by_name(story)
     if name not in scenes:
         raise NoScene(name)
+    return tuple(_woven_in(scenes, name))
+
+
+def choices_at(story, name):
+    """The CHOICES AT a SCENE, pairs (scene, choice): its own, then those of WOVEN ones."""
+    scenes = scenes_by_name(story)
+    if name not in scenes:
+        raise NoScene(name)
+    return choices_in(scenes, name)
+
+
+def choices_in(scenes, name):
+    """The CHOICES AT a SCENE; scenes is a dict of SCENES by their NAMES."""
+    return tuple([
+        (other, choice[0])
+        for other in [name, *_woven_in(scenes, name)]
+        for choice in scenes[other][2]
+    ])
+
+
+def _woven_in(scenes, name):
     come_to = []
     left = list(scenes[name][3][::-1])
     while left:
@@ -23,11 +48,4 @@ def woven_at(story, name):
         if other != name and other not in come_to:
             come_to.append(other)
             left.extend(scenes[other][3][::-1])
-    return tuple(come_to)
-
-
-def choices_at(story, name):
-    """The CHOICES AT a SCENE, pairs (scene, choice): its own, then those of WOVEN ones."""
-    woven = woven_at(story, name)
-    scenes = scenes_by_name(story)
-    return tuple([(other, choice[0]) for other in (name, *woven) for choice in scenes[other][2]])
+    return come_to

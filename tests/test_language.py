@@ -180,6 +180,14 @@ class Statements(unittest.TestCase):
                 if isinstance(node, ast.Compare) and any(isinstance(sign, (ast.Is, ast.IsNot)) for sign in node.ops):
                     self.assertIsInstance(node.comparators[0], ast.Constant, path)
 
+    def test_no_star_stands_in_an_index_or_a_set(self):
+        for path, tree in trees():
+            for node in ast.walk(tree):
+                if isinstance(node, ast.Subscript):
+                    self.assertFalse([part for part in ast.walk(node.slice) if isinstance(part, ast.Starred)], (path, node.lineno))
+                if isinstance(node, ast.Set):
+                    self.assertFalse([part for part in node.elts if isinstance(part, ast.Starred)], (path, node.lineno))
+
     def test_raise_makes_its_error_on_the_spot(self):
         for path, tree in trees():
             for node in ast.walk(tree):
