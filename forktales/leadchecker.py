@@ -1,7 +1,7 @@
 """Whether any thing is a LEAD PAPER."""
 
-from forktales.errors import NoPaper
 from forktales.leadsteps import led_over
+from forktales.refusing import refuse
 from forktales.sameness import are_same
 from forktales.tales import StoryTale
 
@@ -9,9 +9,7 @@ from forktales.tales import StoryTale
 def lets_lead(one, other, row, thing, *, table=((), ())):
     """The word of a LEAD PAPER of a ROW; any other thing is refused."""
     _, stands, why = led_over(StoryTale(other), row, table)
-    fault = _paper_fault(row, thing, stands, why)
-    if fault is not None:
-        raise NoPaper(fault[0], fault[1])
+    refuse(_paper_fault(row, thing, stands, why))
     return thing[0]
 
 

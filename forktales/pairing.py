@@ -3,6 +3,7 @@
 from forktales.bounds import PAIRS
 from forktales.errors import NoMore
 from forktales.pairsteps import PairSteps
+from forktales.reaching import row_to
 
 
 def alike_or_parted(one, other, *, table=((), ()), most=PAIRS):
@@ -25,13 +26,4 @@ def alike_or_parted(one, other, *, table=((), ()), most=PAIRS):
                     ways[after] = (pair, choice)
                     later.append(after)
         level = later
-    return ("alike", tuple(sorted(ways))) if parting is None else ("parted", _row_to(ways, parting))
-
-
-def _row_to(ways, pair):
-    """The ROW that comes to a pair; ways tells of each the one ahead and the choice."""
-    choices = []
-    while ways[pair] is not None:
-        pair, choice = ways[pair]
-        choices.append(choice)
-    return tuple(choices[::-1])
+    return ("alike", tuple(sorted(ways))) if parting is None else ("parted", row_to(ways, parting))

@@ -1,16 +1,14 @@
 """Whether any thing shows that two STORIES go ALIKE, or part."""
 
-from forktales.errors import NoPaper
 from forktales.outcomes import outcome
 from forktales.pairsteps import PairSteps
+from forktales.refusing import refuse
 from forktales.scenekinds import is_tuple_of, is_word_pair
 
 
 def lets_pairing(one, other, thing, *, table=((), ())):
     """The word of PAIRS, or of a PARTING ROW; any other thing is refused."""
-    fault = _fault(PairSteps(one, other, table), thing)
-    if fault is not None:
-        raise NoPaper(fault[0], fault[1])
+    refuse(_fault(PairSteps(one, other, table), thing))
     return thing[0]
 
 

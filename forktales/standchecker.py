@@ -1,15 +1,13 @@
 """Whether any thing is a RIGHT STAND of a STORY."""
 
-from forktales.errors import NoPaper
+from forktales.refusing import refuse
 from forktales.standfaults import stand_fault
 from forktales.tales import StoryTale
 
 
 def lets_stand(story, thing):
     """True of a RIGHT STAND; any other thing is refused."""
-    fault = stand_fault(StoryTale(story), thing)
-    if fault is not None:
-        raise NoPaper(fault[0], fault[1])
+    refuse(stand_fault(StoryTale(story), thing))
     return True
 
 

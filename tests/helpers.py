@@ -66,6 +66,14 @@ def paper_fault(function, **named):
     return refusal(function, NoPaper, "word", "at", **named)
 
 
+def verdict(checker, **named):
+    """("let", told) or ("refused", word, at) of a checker, by names and by places alike."""
+    try:
+        return ("let", told(checker, **named))
+    except NoPaper:
+        return ("refused", *paper_fault(checker, **named))
+
+
 def found(read, text):
     """What a reading function tells of a text, as slowreading tells it."""
     try:

@@ -41,10 +41,19 @@ FUNCTIONS = {
     "leadchecker": {"lets_lead": "one other row thing * table"},
     "pairing": {"alike_or_parted": "one other * table most"},
     "pairjudge": {"lets_pairing": "one other thing * table"},
+    "treeruns": {"run": "story row * begin lifted"},
+    "stepchecker": {"lets_made": "story stand choice thing"},
+    "allstands": {"all_stands": "story * most"},
+    "classes": {"lean_stands": "story * most", "lean_step": "story stand choice * lifted"},
+    "classchecker": {"lets_classes": "story thing"},
+    "heights": {"endings_of": "story", "least_row": "story ending * most", "height_paper": "story ending * most"},
+    "heightchecker": {"lets_height": "story ending thing"},
+    "keptruns": {"do_agree": "one stand other second", "kept_stands": "one other row", "firm_stands": "one other row"},
 }
 
 # What an argument that may be left out is then.
-LEFT_OUT = {"lifted": (), "reader": None, "begin": None, "table": ((), ()), "most": 4000}
+LEFT_OUT = {"lifted": (), "reader": None, "begin": None, "table": ((), ()), "most": 400}
+PAIRED = ("alike_or_parted", "lock_paper")
 
 
 class Interface(unittest.TestCase):
@@ -64,7 +73,8 @@ class Interface(unittest.TestCase):
                             self.assertIs(parameter.default, inspect.Parameter.empty)
                         else:
                             self.assertEqual(parameter.kind, inspect.Parameter.KEYWORD_ONLY)
-                            self.assertEqual(parameter.default, LEFT_OUT[parameter.name])
+                            many = parameter.name == "most" and name in PAIRED
+                            self.assertEqual(parameter.default, 4000 if many else LEFT_OUT[parameter.name])
 
 
 if __name__ == "__main__":
