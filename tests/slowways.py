@@ -1,5 +1,7 @@
 """Ways, papers of them, what stays in another story, once more, straight from the document, for tests to compare with."""
 
+import itertools
+
 from tests import plainkinds, slowtale
 
 SHAPE = ("refused", "shape", -1)
@@ -199,3 +201,140 @@ def firm(one, other, row):
         if any(slowtale.scene_of(one, name) != slowtale.scene_of(other, name) for name in names):
             break
     return many
+
+
+def endings(story):
+    return {scene[4] for scene in story[5]} - {None}
+
+
+def only_readers(story):
+    return {part[1] for scene in story[5] for part in slowtale.inside(scene[1]) if part[0] == "only"}
+
+
+def lines(story, most):
+    """Each line ever shown, and the fewest choices to it; None where more than most lean stands."""
+    heights = lean_heights(story, most)
+    if heights is None:
+        return None
+    fewest = {}
+    for at, height in heights.items():
+        for reader in [None, *only_readers(story)]:
+            for line in slowtale.shown(story, at, reader):
+                fewest[line] = min(height, fewest.get(line, height))
+    return fewest
+
+
+def stuck(story, heights):
+    return tuple(sorted(at for at in heights if ending(story, at) is None and not offered(story, at)))
+
+
+def traps(story, heights):
+    """Those from which none in reach has an ending."""
+    return tuple(sorted(at for at in heights if all(ending(story, other) is None for other in from_stand(story, at, 10 ** 9))))
+
+
+def trap_word(story, stand, thing):
+    if type(thing) is not tuple or len(thing) != 2 or type(thing[0]) is not str or type(thing[1]) is not tuple:
+        return SHAPE
+    word, things = thing
+    if word == "way" and pair_row(things):
+        return row_word(story, stand, things, (), endings(story)) or ("let", "way")
+    if word != "trap":
+        return SHAPE
+    refused = closed_word(story, things, slowtale.lean(story, stand))
+    if refused is not None:
+        return refused
+    ends = [k for k, at in enumerate(things) if ending(story, at) is not None]
+    return ("refused", "end", ends[0]) if ends else ("let", "trap")
+
+
+def all_choices(story):
+    return [(scene[0], choice[0]) for scene in story[5] for choice in scene[2]]
+
+
+def reaches(story, name, lifted):
+    """Whether choices that are offered with these lifted come to an ending."""
+    known, left = {lean_first(story)}, [lean_first(story)]
+    while left:
+        at = left.pop()
+        if ending(story, at) == name:
+            return True
+        for offer in slowtale.offers(story, at, lifted):
+            behind = lean_step(story, at, offer[:2], lifted)
+            if behind not in known:
+                known.add(behind)
+                left.append(behind)
+    return False
+
+
+def lock_size(story, name):
+    """How many choices the locks of an ending have, None of none: all that there are are tried."""
+    choices = all_choices(story)
+    if not reaches(story, name, choices):
+        return None
+    return next(k for k in range(len(choices) + 1) if any(reaches(story, name, some) for some in itertools.combinations(choices, k)))
+
+
+def lock_steps(story, pair):
+    """(j, pair) of each choice at the scene that is offered with all lifted."""
+    laid, at = pair
+    for j, choice in enumerate(slowtale.choices_there(story, at[0])):
+        word, behind = slowtale.make(story, at, choice, (choice,))
+        if word == "made":
+            is_met = slowtale.met(story, at, slowtale.choice_of(story, choice)[2])
+            yield j, (laid if is_met or choice in laid else tuple(sorted({*laid, choice})), slowtale.lean(story, behind))
+
+
+def few(laid, many):
+    return many is None or len(laid) < many
+
+
+def least_bar(story, many):
+    """The least closed bar of pairs with fewer than so many laid, of None however many."""
+    if many == 0:
+        return set()
+    bar, left = {((), lean_first(story))}, [((), lean_first(story))]
+    while left:
+        for _, behind in lock_steps(story, left.pop()):
+            if behind not in bar and few(behind[0], many):
+                bar.add(behind)
+                left.append(behind)
+    return bar
+
+
+def lock_word(story, name, thing):
+    """("let", n) or ("refused", word, at) of an ending of the story."""
+    if type(thing) is not tuple or not thing or type(thing[0]) is not str:
+        return SHAPE
+    bar_kind = plainkinds.every(lambda pair: plainkinds.row(pair, pair_row, lambda _: True))
+    if len(thing) == 2 and thing[0] == "none" and bar_kind(thing[1]):
+        return bar_word(story, name, thing[1], None) or ("let", None)
+    if len(thing) != 4 or thing[0] != "lock" or not pair_row(thing[1]) or not pair_row(thing[2]) or not bar_kind(thing[3]):
+        return SHAPE
+    _, lifted, row, bar = thing
+    for k, choice in enumerate(lifted):
+        if choice not in all_choices(story) or k and lifted[k - 1] >= choice:
+            return ("refused", "lifted", k)
+    refused = row_word(story, slowtale.first(story), row, lifted, (name,)) or bar_word(story, name, bar, len(lifted))
+    return refused or ("let", len(lifted))
+
+
+def bar_word(story, name, bar, many):
+    for k, (laid, at) in enumerate(bar):
+        if list(laid) != sorted(set(laid)) or not set(laid) <= set(all_choices(story)) or not few(laid, many):
+            return ("refused", "laid", k)
+        if slowtale.stand_word(story, at) is not None:
+            return ("refused", "stand", k)
+        if slowtale.lean(story, at) != at:
+            return ("refused", "lean", k)
+        if k and bar[k - 1] >= bar[k]:
+            return ("refused", "rise", k)
+        if ending(story, at) == name:
+            return ("refused", "sooner", k)
+    if many != 0 and ((), lean_first(story)) not in bar:
+        return ("refused", "first", -1)
+    for k, pair in enumerate(bar):
+        for j, behind in lock_steps(story, pair):
+            if few(behind[0], many) and behind not in bar:
+                return ("refused", "step", (k, j))
+    return None

@@ -4,6 +4,8 @@ import importlib
 import inspect
 import unittest
 
+from forktales.houses import House
+
 FUNCTIONS = {
     "talekinds": {
         "is_word": "thing", "is_sum": "thing", "is_test": "thing", "is_piece": "thing", "is_deed": "thing", "is_next": "thing",
@@ -48,15 +50,46 @@ FUNCTIONS = {
     "classchecker": {"lets_classes": "story thing"},
     "heights": {"endings_of": "story", "least_row": "story ending * most", "height_paper": "story ending * most"},
     "heightchecker": {"lets_height": "story ending thing"},
+    "wholeness": {"is_whole": "thing", "lets_whole": "thing"},
+    "looking": {"looks_of": "story", "looks_kept": "one other * looks"},
+    "linesshown": {"lines_shown": "story * most"},
+    "locks": {"lock_paper": "story ending * most"},
+    "lockchecker": {"lets_lock": "story ending thing"},
+    "traps": {"stuck_stands": "story * most", "trap_stands": "story * most", "trap_paper": "story stand * most"},
+    "trapchecker": {"lets_trap": "story stand thing"},
+    "replaying": {"replayed": "log"},
     "keptruns": {"do_agree": "one stand other second", "kept_stands": "one other row", "firm_stands": "one other row"},
 }
 
 # What an argument that may be left out is then.
-LEFT_OUT = {"lifted": (), "reader": None, "begin": None, "table": ((), ()), "most": 400}
+LEFT_OUT = {"looks": inspect.Parameter.empty, "lifted": (), "reader": None, "begin": None, "table": ((), ()), "most": 400}
 PAIRED = ("alike_or_parted", "lock_paper")
 
 
+# The methods of House.
+METHODS = {
+    "__init__": "self story * readers way", "come": "self reader", "go": "self reader", "pick": "self reader choice", "vote": "self reader choice",
+    "edit": "self story table", "back": "self times", "story_now": "self", "row_now": "self", "stand_now": "self", "readers_now": "self", "way_now": "self",
+    "turn_now": "self", "votes_now": "self", "makers_now": "self", "offers_now": "self", "sight_of": "self reader", "has": "self thing", "__len__": "self",
+    "log": "self", "__str__": "self", "__eq__": "self other", "__ne__": "self other", "undo": "self", "do_all": "self deeds * keep", "walks": "self",
+}
+HOUSE_LEFT_OUT = {"readers": (), "way": "turns", "table": ((), ()), "keep": False}
+
+
 class Interface(unittest.TestCase):
+    def test_house(self):
+        self.assertEqual(House.__module__, "forktales.houses")
+        for name, arguments in METHODS.items():
+            with self.subTest(name):
+                method = vars(House)[name]
+                by_place, _, alone = arguments.partition(" * ")
+                parameters = inspect.signature(method).parameters
+                self.assertEqual(list(parameters), by_place.split(" ") + alone.split())
+                for parameter in parameters.values():
+                    self.assertEqual(parameter.default, HOUSE_LEFT_OUT.get(parameter.name, inspect.Parameter.empty))
+                    by_name = inspect.Parameter.KEYWORD_ONLY if parameter.name in alone.split() else inspect.Parameter.POSITIONAL_OR_KEYWORD
+                    self.assertEqual(parameter.kind, by_name)
+
     def test_each_function(self):
         for module, functions in FUNCTIONS.items():
             file = importlib.import_module("forktales." + module)

@@ -140,7 +140,7 @@ class Statements(unittest.TestCase):
             return [node.id]
         if isinstance(node, ast.arg):
             return [node.arg]
-        if isinstance(node, (ast.FunctionDef, ast.ClassDef)) and node.name != "__init__":
+        if isinstance(node, (ast.FunctionDef, ast.ClassDef)) and node.name not in ("__init__", "__len__", "__str__", "__eq__", "__ne__"):
             return [node.name]
         return []
 
@@ -187,6 +187,38 @@ class Statements(unittest.TestCase):
                     self.assertFalse([part for part in ast.walk(node.slice) if isinstance(part, ast.Starred)], (path, node.lineno))
                 if isinstance(node, ast.Set):
                     self.assertFalse([part for part in node.elts if isinstance(part, ast.Starred)], (path, node.lineno))
+
+    def test_what_operators_and_texts_of_objects_assign(self):
+        """Nothing: they return at once."""
+        for path, tree in trees():
+            for node in ast.walk(tree):
+                if isinstance(node, ast.FunctionDef) and node.name in ("__eq__", "__ne__", "__str__", "__repr__", "__len__"):
+                    self.assertEqual([type(part) for part in node.body], [ast.Return], (path, node.name))
+
+    def test_no_name_is_a_method_and_an_attribute_of_a_class(self):
+        for path, tree in trees():
+            for node in tree.body:
+                if isinstance(node, ast.ClassDef):
+                    methods = {part.name for part in node.body if isinstance(part, ast.FunctionDef)}
+                    attributes = {part.attr for part in ast.walk(node) if isinstance(part, ast.Attribute) and isinstance(part.ctx, ast.Store)}
+                    self.assertFalse(methods & attributes, (path, node.name))
+
+    def test_methods_and_functions_that_are_called_where_they_stand(self):
+        """No method is passed on; a function from a table has a name of its own first."""
+        for path, tree in trees():
+            for node in ast.walk(tree):
+                if isinstance(node, ast.Call):
+                    self.assertNotIsInstance(node.func, (ast.Subscript, ast.Call), (path, node.lineno))
+
+    def test_finally_holds_little(self):
+        for path, tree in trees():
+            for node in ast.walk(tree):
+                if isinstance(node, ast.Try):
+                    for part in node.finalbody:
+                        self.assertIsInstance(part, (ast.Assign, ast.AugAssign), (path, part.lineno))
+                    for handler in node.handlers:
+                        names = handler.type.elts if isinstance(handler.type, ast.Tuple) else [handler.type]
+                        self.assertFalse([name.id for name in names if name.id in BUILTINS], (path, handler.lineno))
 
     def test_raise_makes_its_error_on_the_spot(self):
         for path, tree in trees():
