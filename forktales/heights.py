@@ -27,7 +27,7 @@ def height_paper(story, ending, *, most=MOST):
     """("never", stands) or ("reached", row, heights) of an ENDING."""
     reach, end = _reached(story, ending, most)
     if end is None:
-        return ("never", tuple(sorted(reach.stands())))
+        return ("never", tuple(sorted(reach.come_to())))
     row = reach.row_to(end)
     # the FIRST STAND is there even of a ROW without choices
     heights = [(stand, height) for stand, height in reach.heights.items() if height < max(1, len(row))]
@@ -39,5 +39,5 @@ def _reached(story, ending, most):
     check_ending(story, ending)
     steps = LeanSteps(story)
     reach = Reach(steps, steps.first_lean(), most)
-    ends = [stand for stand in reach.stands() if steps.ending(stand) == ending]
+    ends = [stand for stand in reach.come_to() if steps.ending(stand) == ending]
     return (reach, ends[0] if ends else None)

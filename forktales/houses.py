@@ -106,11 +106,11 @@ class House:
         self.goings += 1
         try:
             for row in deeds:
-                self._done(row)
+                self._done(tuple(row))
         except (TaleError, LackError):
             if not keep:
-                del self.rows[begin:]
-                del self.states[begin:]
+                self.rows = self.rows[:begin]
+                self.states = self.states[:begin]
             raise
         finally:
             self.goings -= 1

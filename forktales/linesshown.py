@@ -13,7 +13,7 @@ def lines_shown(story, *, most=MOST):
     reach = Reach(steps, steps.first_lean(), most)
     readers = [None, *_readers_of(story)]
     stands = {}
-    for stand in reach.stands():
+    for stand in reach.come_to():
         for reader in readers:
             for line in lines_shown_at(steps.tale, stand, reader):
                 stands.setdefault(line, stand)

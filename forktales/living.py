@@ -58,7 +58,7 @@ class Living:
 
     def _leads(self, name):
         """The SCENES to which CHOICES AT a SCENE lead."""
-        return [scene for pair in self._open_choices(name) for scene in self.tale.choice(pair)[5][1:]]
+        return [scene for pair in self._open_choices(name) for scene in self.tale.choice_of(pair)[5][1:]]
 
     def _reads(self, name):
         """What a SCENE READS, a dict of True."""
@@ -72,7 +72,7 @@ class Living:
     def _asked_by_choice(self, pair):
         """What a CHOICE asks for: its label, its TEST, its DEEDS, and whether it was made, if it is once."""
         if pair not in self.by_choice:
-            choice = self.tale.choice(pair)
+            choice = self.tale.choice_of(pair)
             asked = _asked_by(parts_of_choice(choice), self.tale.digits)
             if choice[3]:
                 scene, name = pair

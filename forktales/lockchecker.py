@@ -43,7 +43,7 @@ def _lock_fault(steps, ending, thing):
     _, lifted, row, bar = thing
     tale = steps.lean_steps.tale
     for k, choice in enumerate(lifted):
-        if tale.choice(choice) is None or (k > 0 and not lifted[k - 1] < choice):
+        if tale.choice_of(choice) is None or (k > 0 and not lifted[k - 1] < choice):
             return ("lifted", k)
     return row_fault(tale, tale.first(), row, lifted, (ending,)) or _bar_fault(steps, ending, bar, len(lifted))
 
@@ -68,7 +68,7 @@ def _pair_word(steps, ending, pair, many, ahead):
     """The word by which a pair of a bar is refused, None of none; ahead is the one ahead, None of the first."""
     laid, stand = pair
     lean_steps = steps.lean_steps
-    are_choices = all([lean_steps.tale.choice(choice) is not None for choice in laid])
+    are_choices = all([lean_steps.tale.choice_of(choice) is not None for choice in laid])
     if not rises(laid) or not are_choices or not _are_few(laid, many):
         return "laid"
     if stand_fault(lean_steps.tale, stand) is not None:

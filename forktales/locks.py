@@ -15,10 +15,9 @@ def lock_paper(story, ending, *, most=PAIRS):
     layer = [steps.first_pair()]
     bar = []
     while layer:
-        layer, later = _gone_through(steps, ways, layer)
-        ends = [pair for pair in layer if steps.ending(pair[1]) == ending]
-        if ends:
-            return ("lock", ends[0][0], row_to(ways, ends[0]), tuple(sorted(bar)))
+        end, layer, later = _gone_through(steps, ending, ways, layer)
+        if end is not None:
+            return ("lock", end[0], row_to(ways, end), tuple(sorted(bar)))
         bar.extend(layer)
         if len(bar) > most:
             raise NoMore(most)
@@ -26,22 +25,28 @@ def lock_paper(story, ending, *, most=PAIRS):
     return ("none", tuple(sorted(bar)))
 
 
-def _gone_through(steps, ways, layer):
-    """All pairs with as many laid that some come to, these too; and those with one more that all come to.
+def _gone_through(steps, ending, ways, layer):
+    """Go from some pairs to all with as many laid; told are the first with the ENDING, None of none, and two lists.
 
-    ways tells of each pair the one ahead and the choice; pairs that it has are known.
+    These are all such pairs, and those with one more laid to which they lead. ways tells
+    of each pair that is known the one ahead and the choice.
     """
     reached = []
     later = []
-    left = list(layer)
-    while left:
-        pair = left.pop()
-        reached.append(pair)
-        for _, choice, after in steps.steps(pair):
-            if after not in ways:
+    level = layer
+    while level:
+        further = []
+        for pair in level:
+            if steps.ending(pair[1]) == ending:
+                return (pair, reached, later)
+            reached.append(pair)
+            for _, choice, after in steps.steps(pair):
+                if after in ways:
+                    continue
                 ways[after] = (pair, choice)
                 if len(after[0]) > len(pair[0]):
                     later.append(after)
                 else:
-                    left.append(after)
-    return reached, later
+                    further.append(after)
+        level = further
+    return (None, reached, later)

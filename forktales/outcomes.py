@@ -13,7 +13,7 @@ def outcome(tale, stand, choice, lifted):
         return ("ended", None)
     if choice not in tale.there(stand[0]):
         return ("there", None)
-    _, _, test, once, deeds, leads = tale.choice(choice)
+    _, _, test, once, deeds, leads = tale.choice_of(choice)
     if once and choice in stand[5]:
         return ("once", None)
     facts = Facts(tale, stand)

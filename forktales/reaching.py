@@ -17,8 +17,8 @@ class Reach:
         while level:
             level = self._go_on(steps, level, most)
 
-    def stands(self):
-        """All STANDS, a list: those of less HEIGHT ahead."""
+    def come_to(self):
+        """All STANDS that are come to, a list: those of less HEIGHT ahead."""
         return list(self.ways)
 
     def steps(self, stand):

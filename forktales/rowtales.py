@@ -35,7 +35,7 @@ class RowTale(Tale):
         """The CHOICES AT a SCENE, pairs."""
         return self._tuples("there", name, 2)
 
-    def choice(self, pair):
+    def choice_of(self, pair):
         """The CHOICE of a pair (scene, choice) that there is."""
         if pair not in self.choices_built:
             scene, name = pair

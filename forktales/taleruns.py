@@ -15,7 +15,7 @@ def offers_at(tale, stand, lifted):
     """The OFFERS at a STAND: triples (scene, choice, lines)."""
     facts = Facts(tale, stand)
     choices = [choice for choice, _ in steps_from(tale, stand, lifted)]
-    return tuple([(*choice, lines_by(facts, tale.choice(choice)[1], None)) for choice in choices])
+    return tuple([(*choice, lines_by(facts, tale.choice_of(choice)[1], None)) for choice in choices])
 
 
 def stands_run(tale, row, begin, lifted):

@@ -51,7 +51,7 @@ class StoryTale(Tale):
             self.there_by_scene[name] = choices_in(self.scenes, name)
         return self.there_by_scene[name]
 
-    def choice(self, pair):
+    def choice_of(self, pair):
         """The CHOICE of a pair (scene, choice), None where there is none."""
         scene, name = pair
         if scene in self.scenes:
@@ -62,7 +62,7 @@ class StoryTale(Tale):
 
     def is_once(self, pair):
         """Whether a pair is that of a CHOICE that is once."""
-        choice = self.choice(pair)
+        choice = self.choice_of(pair)
         return choice is not None and choice[3]
 
     def choices(self):

@@ -69,6 +69,13 @@ class Figures(Done):
         self.moves(("go", "ann", "inn"), "lake road inn", "inn road inn")
         self.moves(("go", "cat", "attic"), "lake road inn", "lake road attic")
 
+    def test_who_is_with_one_that_is_called_as_a_place_does_not_go(self):
+        one = story(scene("a"), places=("inn", "road"), doors=(("inn", "road"),), figures=(("ann", "inn"), ("inn", "inn")))
+        at = stand(wheres=(("with", "inn"), ("at", "inn")))
+        self.assertIsNone(told(deed_done, story=one, stand=at, deed=("go", "ann", "road")))
+        after = stand(wheres=(("with", "inn"), ("at", "road")))
+        self.assertTrue(same(told(deed_done, story=one, stand=at, deed=("go", "inn", "road")), after))
+
     def test_go_without_a_door(self):
         for place in ("attic", "lake"):
             self.stays(("go", "ann", place), "lake road inn")

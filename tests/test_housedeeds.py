@@ -163,6 +163,11 @@ class DoneAll(unittest.TestCase):
                 self.assertTrue(same(house.do_all(deeds=kind(DEEDS[k:]), keep=True), len(DEEDS) - k))
                 self.assertEqual(house, house_with(DEEDS))
 
+    def test_rows_that_are_lists_are_noted_as_tuples(self):
+        house = House(HALL, readers=("ann",))
+        self.assertEqual(house.do_all([list(row) for row in DEEDS]), len(DEEDS))
+        self.assertTrue(same(house.log(), house_with(DEEDS).log()))
+
     def test_void(self):
         house = House(HALL)
         for deeds in ((), []):

@@ -195,13 +195,28 @@ class Statements(unittest.TestCase):
                 if isinstance(node, ast.FunctionDef) and node.name in ("__eq__", "__ne__", "__str__", "__repr__", "__len__"):
                     self.assertEqual([type(part) for part in node.body], [ast.Return], (path, node.name))
 
-    def test_no_name_is_a_method_and_an_attribute_of_a_class(self):
+    def test_no_name_is_a_method_and_an_attribute(self):
+        methods, attributes = {}, {}
         for path, tree in trees():
-            for node in tree.body:
+            for node in ast.walk(tree):
                 if isinstance(node, ast.ClassDef):
-                    methods = {part.name for part in node.body if isinstance(part, ast.FunctionDef)}
-                    attributes = {part.attr for part in ast.walk(node) if isinstance(part, ast.Attribute) and isinstance(part.ctx, ast.Store)}
-                    self.assertFalse(methods & attributes, (path, node.name))
+                    methods.update({part.name: path for part in node.body if isinstance(part, ast.FunctionDef)})
+                if isinstance(node, ast.Attribute) and isinstance(node.ctx, ast.Store):
+                    attributes[node.attr] = path
+        self.assertFalse(set(methods) & set(attributes))
+
+    def test_what_is_gone_through_is_not_changed_in_the_loop(self):
+        """By its name, as far as it has one."""
+        for path, tree in trees():
+            for node in ast.walk(tree):
+                if isinstance(node, ast.For):
+                    gone_through = {ast.unparse(part) for part in ast.walk(node.iter) if isinstance(part, (ast.Name, ast.Attribute))}
+                    for part in ast.walk(ast.Module(node.body, [])):
+                        if isinstance(part, ast.Call) and isinstance(part.func, ast.Attribute):
+                            if part.func.attr in ("append", "extend", "pop", "update", "setdefault", "clear", "insert", "remove"):
+                                self.assertNotIn(ast.unparse(part.func.value), gone_through, (path, part.lineno))
+                        if isinstance(part, ast.Subscript) and isinstance(part.ctx, (ast.Store, ast.Del)):
+                            self.assertNotIn(ast.unparse(part.value), gone_through, (path, part.lineno))
 
     def test_methods_and_functions_that_are_called_where_they_stand(self):
         """No method is passed on; a function from a table has a name of its own first."""
